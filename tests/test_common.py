@@ -1,0 +1,179 @@
+"""Points 0.1 to 0.10 where they hold for everything: what is passed in, what comes back, what is equal."""
+
+import copy
+import unittest
+from types import GeneratorType
+
+from hushedwires.balances import Balance, Loud, balance_fault, balance_of, hushing_lengths
+from hushedwires.courses import Course, most_factor, noise_course
+from hushedwires.hums import binomial_hum, level_hum, mark_hum, noise_of, polynomial_hum, stretch_hum
+from hushedwires.limits import (
+    Clash, Limits, check_known, check_limits, hum_through, let_more, let_same, tighten, within_limits)
+from hushedwires.lines import Line, check_hum, check_marks
+from hushedwires.linetext import line_of, line_text
+from hushedwires.loudest import Endless, Greatest, endless_fault, greatest_fault, greatest_noise
+from hushedwires.orders import hushing_poles, loud_fault, loud_polynomial, order_noise, order_of
+from hushedwires.plans import Between, Outside, Plan, first_heard, plan_hushed
+from hushedwires.quietest import Quiet, quietest_words
+from hushedwires.ratios import greatest_of, least_of, sum_of
+from hushedwires.running import check_sums, never_louder, running_of, spare_parts, sums_cost
+from hushedwires.sames import Apart, Made, holds_span, lean_hums, place_fault, place_hum, same_span
+from hushedwires.spans import (
+    Heard, Span, check_span, degree_span, heard_by, hum_by_shares, is_hushed, noises_of, stretch_span)
+from hushedwires.words import (
+    backward_word, check_poles, check_signs, check_word, crossed_at, crossings_of, cut_word, each_word, number_of_word,
+    opposite_of, product_of, turned_word, word_by_number, word_with)
+from hushedwires.wordtext import hum_of, hum_text, word_of, word_text, words_of, words_text
+from tests.reckon import Case, is_true_ratio
+
+LINE = Line([(1, 1), (3, 2), (2, 1), (1, 1)], [(-1, 1), (0, 1), (1, 2), (3, 1)])
+WORD, OTHER, THIRD = [1, -1, -1, 1], [1, 1, -1, -1], [1, -1, 1, -1]
+HUM = [(1, 1), (-1, 2), (0, 1), (1, 1)]
+SPAN = Span([[(1, 1), (1, 1), (1, 1), (1, 1)], [(0, 1), (1, 1), (2, 1), (3, 1)]])
+LIMITS = Limits([(2, 1), None, (1, 1), (3, 1)], [(1, 1), (5, 2), None])
+FREE = Limits([None] * 4, [(1, 1)] * 3)
+KNOWN = [[0, (1, 1)], (2, (-1, 2))]
+HALF_KNOWN = ((0, (1, 1)),)
+SUMS = [(0, 1), (1, 1), (-1, 2), (0, 1), (0, 1)]
+PLAN = Plan(LINE, [OTHER, THIRD])
+GREATEST = greatest_noise(LINE, WORD, LIMITS)
+
+CALLS = [
+    (sum_of, [HUM]), (least_of, [HUM]), (greatest_of, [HUM]),
+    (Line, [list(LINE.lengths), list(LINE.marks)]), (LINE.cut_section, [1, (1, 2), (1, 4)]), (LINE.backward, []),
+    (LINE.grown, [(2, 1)]), (LINE.shifted, [(2, 1)]), (LINE.joined_to, [LINE, (1, 1)]), (check_marks, [list(LINE.marks)]),
+    (check_hum, [4, HUM]), (check_signs, [WORD]), (check_word, [LINE, WORD]), (turned_word, [[-1, 1]]),
+    (opposite_of, [WORD]), (crossings_of, [WORD]), (check_poles, [9, [5, 3]]), (word_with, [9, [5, 3]]),
+    (crossed_at, [WORD, 2]), (product_of, [WORD, OTHER]), (backward_word, [WORD]), (cut_word, [WORD, 1]),
+    (word_by_number, [4, 3]), (number_of_word, [WORD]), (each_word, [3]), (line_text, [LINE]), (line_of, ["1:0 2:1"]),
+    (word_text, [WORD]), (words_text, [[WORD, OTHER]]), (hum_text, [HUM]), (word_of, ["+-"]), (words_of, ["+-\n++"]),
+    (hum_of, ["1 2"]), (noise_of, [LINE, WORD, HUM]), (level_hum, [LINE]), (mark_hum, [LINE, 2]), (stretch_hum, [4, 1, 2]),
+    (polynomial_hum, [LINE, HUM]), (binomial_hum, [4, 1]), (Span, [[HUM, HUM]]), (check_span, [LINE, SPAN]),
+    (degree_span, [LINE, 3]), (stretch_span, [4, [[0, 1], (1, 3)]]), (hum_by_shares, [SPAN, [(1, 1), (1, 2)]]),
+    (noises_of, [LINE, WORD, SPAN]), (heard_by, [LINE, WORD, SPAN]), (is_hushed, [LINE, WORD, SPAN]),
+    (place_hum, [SPAN, HUM]), (place_hum, [SPAN, list(SPAN.hums[1])]), (place_fault, [SPAN, HUM, Made([(1, 1), (1, 1)])]),
+    (place_fault, [SPAN, HUM, Apart(list(HUM))]), (lean_hums, [SPAN]), (holds_span, [SPAN, SPAN]), (same_span, [SPAN, SPAN]),
+    (order_of, [LINE, WORD]), (order_noise, [LINE, WORD]), (loud_polynomial, [LINE, WORD]),
+    (loud_fault, [LINE, WORD, [(1, 1), (2, 1)]]), (hushing_poles, [LINE, WORD, SPAN]), (balance_of, [WORD, SPAN]),
+    (balance_of, [OTHER, SPAN]), (balance_fault, [WORD, SPAN, Balance([(1, 1)] * 4)]),
+    (balance_fault, [WORD, SPAN, Loud([(1, 1), (0, 1)], [(1, 1)] * 4)]), (hushing_lengths, [list(LINE.marks), WORD]),
+    (Limits, [[(1, 1), None], [(1, 1)]]), (Limits.alike, [3, (1, 1), None]), (LIMITS.with_most, [1, (1, 1)]),
+    (LIMITS.with_step, [1, (1, 1)]), (LIMITS.grown, [(2, 1)]), (LIMITS.both, [FREE]), (LIMITS.backward, []),
+    (check_limits, [LINE, LIMITS]), (within_limits, [HUM, LIMITS]), (tighten, [LIMITS]), (let_same, [LIMITS, FREE]),
+    (let_more, [FREE, LIMITS]), (check_known, [LIMITS, KNOWN]), (hum_through, [LIMITS, KNOWN]),
+    (running_of, [LINE, WORD]), (check_sums, [LINE, SUMS]), (sums_cost, [LINE, WORD, LIMITS, SUMS]),
+    (spare_parts, [LINE, WORD, LIMITS, [(1, 1)] * 4, SUMS]), (never_louder, [LINE, WORD, OTHER]),
+    (greatest_noise, [LINE, WORD, LIMITS]), (greatest_noise, [LINE, WORD, FREE]),
+    (greatest_fault, [LINE, WORD, LIMITS, GREATEST]), (endless_fault, [LINE, WORD, FREE, Endless(tuple(HUM))]),
+    (quietest_words, [LINE, LIMITS, 2]), (noise_course, [LINE, WORD, LIMITS]), (noise_course, [LINE, WORD, FREE]),
+    (most_factor, [LINE, WORD, LIMITS, (1, 1)]), (Plan, [LINE, [WORD, OTHER]]), (PLAN.with_word, [WORD]),
+    (PLAN.without, [0]), (PLAN.product_at, [0, 1]), (first_heard, [PLAN, SPAN, SPAN])]
+KNOWING = [(sums_cost, [LINE, WORD, LIMITS, SUMS]), (spare_parts, [LINE, WORD, LIMITS, [(1, 1)] * 4, SUMS]),
+           (greatest_noise, [LINE, WORD, LIMITS]), (greatest_noise, [LINE, WORD, FREE]),
+           (greatest_fault, [LINE, WORD, LIMITS, GREATEST]), (endless_fault, [LINE, WORD, FREE, Endless(tuple(HUM))])]
+
+
+def drawn(thing):
+    """A thing as texts and tuples, objects by their attributes: what two alike things share."""
+    if isinstance(thing, (list, tuple)):
+        return (type(thing).__name__,) + tuple(drawn(one) for one in thing)
+    if hasattr(thing, "__dict__"):
+        return (type(thing).__name__,) + tuple((name, drawn(one)) for name, one in sorted(vars(thing).items()))
+    return repr(thing)
+
+
+def as_tuples(thing):
+    return tuple(as_tuples(one) for one in thing) if isinstance(thing, (list, tuple)) else thing
+
+
+def as_lists(thing):
+    """All rows as lists; ratios stay tuples."""
+    if isinstance(thing, (list, tuple)) and not is_true_ratio(thing):
+        return [as_lists(one) for one in thing]
+    return thing
+
+
+def ran(call, given, **named):
+    told = call(*given, **named)
+    return tuple(told) if isinstance(told, GeneratorType) else told
+
+
+def spoil(thing):
+    """Change each list in a thing that was passed in."""
+    if isinstance(thing, (list, tuple)):
+        for one in thing:
+            spoil(one)
+    if isinstance(thing, list):
+        thing.reverse()
+        thing.append("spoilt")
+
+
+class PassedInTest(Case):
+    def all_calls(self):
+        for call, given in CALLS:
+            yield call, given, {}
+        for call, given in KNOWING:
+            yield call, given, {"known": [list(couple) for couple in HALF_KNOWN]}
+
+    def test_nothing_is_changed(self):
+        for call, given, named in self.all_calls():
+            before = drawn((given, list(named.values()), getattr(call, "__self__", None)))
+            ran(call, given, **named)
+            self.assertEqual(drawn((given, list(named.values()), getattr(call, "__self__", None))), before, call)
+
+    def test_nothing_is_kept(self):
+        for call, given, named in self.all_calls():
+            own, own_named = copy.deepcopy(given), copy.deepcopy(named)
+            told = ran(call, own, **own_named)
+            before = drawn(told)
+            spoil(own)
+            spoil(list(own_named.values()))
+            self.assertEqual(drawn(told), before, call)
+            self.assertEqual(drawn(ran(call, given, **named)), before, call)
+
+    def test_rows_are_lists_or_tuples(self):
+        for call, given, named in self.all_calls():
+            told = drawn(ran(call, given, **named))
+            for form in (as_tuples, as_lists):
+                other = {name: form(thing) for name, thing in named.items()}
+                self.assertEqual(drawn(ran(call, [form(one) for one in given], **other)), told, call)
+
+    def test_results_hold_no_lists(self):
+        for call, given, named in self.all_calls():
+            self.assertNotIn("'list'", repr(drawn(ran(call, given, **named))), call)
+
+    def test_truths_are_truths(self):
+        for told in (is_hushed(LINE, WORD, SPAN), holds_span(SPAN, SPAN), same_span(SPAN, SPAN),
+                     let_same(LIMITS, FREE), LINE.is_even, plan_hushed(PLAN, SPAN, None)):
+            self.assertIs(type(told), bool)
+
+
+class EqualTest(Case):
+    def test_objects_equal_only_their_own_kind(self):
+        made = [LINE, SPAN, LIMITS, PLAN, Heard(0, 0), Made(0), Apart(0), Balance(0), Loud(0, 0), Clash(0, 0),
+                Greatest(0, 0, 0), Endless(0), Quiet(0, 0), Course(0, 0), Outside(0, 0, 0), Between(0, 0, 0, 0)]
+        for number, one in enumerate(made):
+            for place, other in enumerate(made):
+                self.assertIs(one == other, number == place)
+                self.assertIs(one != other, number != place)
+            self.assertEqual(one, copy.deepcopy(one))
+            for thing in (None, 0, (), one.__dict__, "x"):
+                self.assertFalse(one == thing)
+
+    def test_results_take_their_names(self):
+        self.assertEqual(vars(Heard(hum=1, noise=2)), {"hum": 1, "noise": 2})
+        self.assertEqual(vars(Made(shares=1)), {"shares": 1})
+        self.assertEqual(vars(Apart(row=1)), {"row": 1})
+        self.assertEqual(vars(Balance(lengths=1)), {"lengths": 1})
+        self.assertEqual(vars(Loud(shares=1, hum=2)), {"shares": 1, "hum": 2})
+        self.assertEqual(vars(Clash(first=1, second=2)), {"first": 1, "second": 2})
+        self.assertEqual(vars(Greatest(amount=1, hum=2, sums=3)), {"amount": 1, "hum": 2, "sums": 3})
+        self.assertEqual(vars(Endless(hum=1)), {"hum": 1})
+        self.assertEqual(vars(Quiet(amount=1, words=2)), {"amount": 1, "words": 2})
+        self.assertEqual(vars(Course(corners=1, slope=2)), {"corners": 1, "slope": 2})
+        self.assertEqual(vars(Outside(pair=1, hum=2, noise=3)), {"pair": 1, "hum": 2, "noise": 3})
+        self.assertEqual(vars(Between(pair=1, other=2, hum=3, noise=4)), {"pair": 1, "other": 2, "hum": 3, "noise": 4})
+
+
+if __name__ == "__main__":
+    unittest.main()

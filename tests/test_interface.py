@@ -1,0 +1,101 @@
+"""The interface: names, arguments, and the file in which each thing is defined."""
+
+import importlib
+import inspect
+import unittest
+
+FUNCTIONS = {
+    "ratios": """is_whole(thing,low=None,high=None) is_ratio(thing) make_ratio(top,bottom=1) plus(one,other)
+        minus(one,other) times(one,other) over(one,other) negative(one) size_of(one) power_of(one,exponent)
+        sum_of(row) least_of(row) greatest_of(row) compare(one,other) ratio_text(one) ratio_of(text)""",
+    "lines": "check_marks(marks) check_hum(count,hum)",
+    "words": """check_signs(word) check_word(line,word) turned_word(signs) opposite_of(word) crossings_of(word)
+        check_poles(count,poles) word_with(count,poles) crossed_at(word,pole) product_of(one,other)
+        backward_word(word) cut_word(word,section) word_by_number(count,number) number_of_word(word)
+        each_word(count)""",
+    "linetext": "line_text(line) line_of(text)",
+    "wordtext": "word_text(word) words_text(words) hum_text(hum) word_of(text) words_of(text) hum_of(text)",
+    "hums": """noise_of(line,word,hum) level_hum(line) mark_hum(line,power) stretch_hum(count,low,high)
+        polynomial_hum(line,coefficients) binomial_hum(count,lower)""",
+    "spans": """check_span(line,span) degree_span(line,degree) stretch_span(count,stretches)
+        hum_by_shares(span,shares) noises_of(line,word,span) heard_by(line,word,span) is_hushed(line,word,span)""",
+    "sames": """place_hum(span,hum) place_fault(span,hum,told) lean_hums(span) holds_span(one,other)
+        same_span(one,other)""",
+    "orders": """order_of(line,word) order_noise(line,word) loud_polynomial(line,word)
+        loud_fault(line,word,coefficients) hushing_poles(line,word,span) length_bar(length,degree)""",
+    "balances": "balance_of(word,span) balance_fault(word,span,told) hushing_lengths(marks,word)",
+    "limits": """check_limits(line,limits) within_limits(hum,limits) tighten(limits) let_same(one,other)
+        let_more(one,other) check_known(limits,known) hum_through(limits,known)""",
+    "running": """running_of(line,word) check_sums(line,sums) sums_cost(line,word,limits,sums,*,known=())
+        spare_parts(line,word,limits,hum,sums,*,known=()) never_louder(line,word,other)""",
+    "loudest": """greatest_noise(line,word,limits,*,known=()) greatest_fault(line,word,limits,greatest,*,known=())
+        endless_fault(line,word,limits,endless,*,known=())""",
+    "quietest": "quietest_words(line,limits,crossings)",
+    "courses": "noise_course(line,word,limits) most_factor(line,word,limits,amount)",
+    "plans": """check_pair(plan,pair) check_asked(line,span) first_heard(plan,outside,between)
+        plan_hushed(plan,outside,between)""",
+}
+CLASSES = {
+    "lines": {"Line(lengths,marks)": """cut_section(self,section,share,mark) backward(self) grown(self,size)
+        shifted(self,step) joined_to(self,other,gap) even(count) __len__(self) __eq__(self,other)"""},
+    "spans": {"Span(hums)": "__len__(self) __iter__(self) __eq__(self,other)", "Heard(hum,noise)": ""},
+    "sames": {"Made(shares)": "", "Apart(row)": ""},
+    "balances": {"Balance(lengths)": "", "Loud(shares,hum)": ""},
+    "limits": {"Clash(first,second)": "", "Limits(mosts,steps)": """alike(sections,most,step)
+        with_most(self,section,most) with_step(self,pole,step) grown(self,factor) both(self,other) backward(self)
+        __len__(self) __eq__(self,other)"""},
+    "loudest": {"Greatest(amount,hum,sums)": "", "Endless(hum)": ""},
+    "quietest": {"Quiet(amount,words)": ""},
+    "courses": {"Course(corners,slope)": "amount_at(self,factor)"},
+    "plans": {"Plan(line,words)": """product_at(self,pair,other) with_word(self,word) without(self,pair)
+        __len__(self) __iter__(self) __eq__(self,other)""",
+              "Outside(pair,hum,noise)": "", "Between(pair,other,hum,noise)": ""},
+}
+PROPERTIES = {"lines": {"Line": ["is_even"]}, "spans": {"Span": ["sections"]},
+              "limits": {"Limits": ["free_poles", "free_stretches"]}}
+STATIC = {"Line": ["even"], "Limits": ["alike"]}
+
+
+def entries(text):
+    for entry in text.split():
+        yield entry.split("(")[0], "(" + entry.split("(", 1)[1].replace(",", ", ").replace(", )", ",)")
+
+
+def module_of(name):
+    return importlib.import_module("hushedwires." + name)
+
+
+class InterfaceTest(unittest.TestCase):
+    def test_functions(self):
+        for module, text in FUNCTIONS.items():
+            for name, arguments in entries(text):
+                function = getattr(module_of(module), name)
+                self.assertEqual(str(inspect.signature(function)), arguments, name)
+                self.assertEqual(function.__module__, "hushedwires." + module)
+
+    def test_classes(self):
+        for module, told in CLASSES.items():
+            for entry, methods in told.items():
+                (name, arguments), = entries(entry)
+                one = getattr(module_of(module), name)
+                self.assertEqual(str(inspect.signature(one)), arguments, name)
+                self.assertEqual(one.__module__, "hushedwires." + module)
+                self.assertIn("__eq__", vars(one))
+                for method, taken in entries(methods):
+                    self.assertIn(method, vars(one))
+                    self.assertEqual(str(inspect.signature(getattr(one, method))), taken, method)
+                    self.assertEqual(isinstance(vars(one)[method], staticmethod), method in STATIC.get(name, ()))
+
+    def test_properties(self):
+        for module, told in PROPERTIES.items():
+            for name, properties in told.items():
+                for one in properties:
+                    self.assertIsInstance(vars(getattr(module_of(module), name))[one], property)
+
+    def test_constants(self):
+        for name in ("ZERO", "ONE", "HALF"):
+            self.assertIs(type(getattr(module_of("ratios"), name)), tuple)
+
+
+if __name__ == "__main__":
+    unittest.main()
