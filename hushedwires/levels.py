@@ -35,7 +35,7 @@ def _whole_of(one, bottom):
 
 
 def least_chain(heights, mosts, steps, known):
-    """The least cost and a chain that has it, or None if no chain has a cost.
+    """The least cost and a chain that has it; some chain must have a cost.
 
     Known values stand in a dict by section.
     """
@@ -48,8 +48,6 @@ def least_chain(heights, mosts, steps, known):
         origins.append([None if one is None else one[1] for one in moved])
         costs = _held(levels, moved, heights[section + 1], pole_steps[section])
     place = levels.index(heights[-1])
-    if costs[place] is None:
-        return None
     return costs[place], _chain_to(levels, origins, place)
 
 
@@ -66,13 +64,9 @@ def _moved(levels, costs, most, value):
 
 
 def _moved_known(levels, costs, value):
-    least = None
-    for place, cost in enumerate(costs):
-        if cost is not None and (least is None or cost - value * levels[place] < least[0]):
-            least = (cost - value * levels[place], place)
-    if least is None:
-        return [None] * len(levels)
-    return [(least[0] + value * level, least[1]) for level in levels]
+    base, origin = min([(cost - value * levels[place], place)
+                        for place, cost in enumerate(costs) if cost is not None])
+    return [(base + value * level, origin) for level in levels]
 
 
 def _spread(levels, moved, most):

@@ -112,9 +112,9 @@ def _sum(one, other):
 
 def _is_above(one, other):
     # None is greater than each ratio
-    if one is None or other is None:
-        return one is None and other is not None
-    return compare(one, other) > 0
+    if other is None:
+        return False
+    return one is None or compare(one, other) > 0
 
 
 def _lesser(one, other):

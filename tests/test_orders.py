@@ -167,6 +167,7 @@ class OneChangeTest(Case):
         other = Span([ratios(1, 1, 1)])
         bad_words(self, lambda line, word: hushing_poles(line, word, other))
         self.refuses(OtherLine(), hushing_poles, Line.even(2), (1, 1), other)
+        self.refuses(OtherLine(), hushing_poles, Line.even(1), (1,), other)
 
 
 class LengthBarTest(Case):

@@ -176,20 +176,25 @@ class NeverLouderTest(Case):
     def test_both_sides(self):
         source = seeded(310)
         seen = []
+        lines = [Line.even(6)]
         for _ in range(60):
             count = source.randint(1, 5)
-            line = source.choice((Line.even(count), random_line(source, count)))
-            for word, other in product(all_words(count), repeat=2):
-                told = never_louder(line, list(word), list(other))
-                sums, against = running(line, word), running(line, other)
-                right = against[-1] != 0 or (sums[-1] == 0 and all(
-                    abs(one) <= abs(there) for one, there in zip(sums, against)))
-                self.assertEqual(told is None, right)
-                seen.append((told is None, against[-1] == 0, sums[-1] == 0))
-                if told is not None:
-                    self.check_louder(line, word, other, told)
+            lines.append(source.choice((Line.even(count), random_line(source, count))))
+        for line in lines:
+            for word, other in product(all_words(len(line)), repeat=2):
+                seen.append(self.check_couple(line, word, other))
         for kind in ((True, False, True), (True, True, True), (False, True, True), (False, True, False)):
             self.assertGreater(seen.count(kind), 5, kind)
+
+    def check_couple(self, line, word, other):
+        told = never_louder(line, list(word), list(other))
+        sums, against = running(line, word), running(line, other)
+        right = against[-1] != 0 or (sums[-1] == 0 and all(
+            abs(one) <= abs(there) for one, there in zip(sums, against)))
+        self.assertEqual(told is None, right)
+        if told is not None:
+            self.check_louder(line, word, other, told)
+        return (told is None, against[-1] == 0, sums[-1] == 0)
 
     def check_louder(self, line, word, other, limits):
         self.assertIs(type(limits), Limits)

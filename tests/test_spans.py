@@ -71,6 +71,7 @@ class MadeSpansTest(Case):
             made = stretch_span(5, form([form((0, 2)), (2, 5), [4, 5]]))
             self.assertEqual(made, Span([stretch_hum(5, 0, 2), stretch_hum(5, 2, 5), stretch_hum(5, 4, 5)]))
         self.assertEqual(len(stretch_span(24, [(0, 24)] * 6)), 6)
+        self.assertEqual(stretch_span(1, [(0, 1)]), Span([ratios(1)]))
 
     def test_stretch_span_refuses(self):
         for thing in WRONG_WHOLES + [0, 25]:
