@@ -23,6 +23,11 @@ def _signed(sign, one):
     return one if sign == 1 else negative(one)
 
 
+def signed_hum(word, hum):
+    """The hum with each entry times the sign of the word there."""
+    return tuple([_signed(sign, entry) for sign, entry in zip(word, hum)])
+
+
 def level_hum(line):
     """The hum that is 1 at each section."""
     return (ONE,) * len(line)

@@ -6,28 +6,20 @@ over is the rise of its level, and the least of all costs comes up among chains 
 are heights.
 """
 
-from math import lcm
+from hushedwires.ratios import common_bottom
 
 
 class WholeCase:
     """A word's heights, limits and known values, times what makes them whole numbers."""
 
     def __init__(self, running, limits, known):
-        self.length_bottom = _common_bottom(running)
-        self.hum_bottom = _common_bottom(
-            list(limits.mosts) + list(limits.steps) + [value for _, value in known])
+        self.length_bottom = common_bottom(running)
+        limiting = [one for one in limits.mosts + limits.steps if one is not None]
+        self.hum_bottom = common_bottom(limiting + [value for _, value in known])
         self.heights = [_whole_of(one, self.length_bottom) for one in running]
         self.mosts = [_whole_of(most, self.hum_bottom) for most in limits.mosts]
         self.steps = [_whole_of(step, self.hum_bottom) for step in limits.steps]
         self.known = {section: _whole_of(value, self.hum_bottom) for section, value in known}
-
-
-def _common_bottom(ratios):
-    bottom = 1
-    for one in ratios:
-        if one is not None:
-            bottom = lcm(bottom, one[1])
-    return bottom
 
 
 def _whole_of(one, bottom):

@@ -1,6 +1,6 @@
 """Ratios: exact numbers as couples (top, bottom) in lowest terms."""
 
-from math import gcd
+from math import gcd, lcm
 
 from hushedwires.errors import BadRatio
 
@@ -144,6 +144,24 @@ def greatest_of(row):
         if compare(one, greatest) > 0:
             greatest = one
     return greatest
+
+
+def long_plus(one, other):
+    """The sum of two ratios of which one may be very long; both must be in lowest terms."""
+    # what the bottoms share is no longer than the shorter one, and so are both gcds
+    common = gcd(one[1], other[1])
+    part = one[1] // common
+    top = one[0] * (other[1] // common) + other[0] * part
+    common = gcd(top, common)
+    return (top // common, part * (other[1] // common))
+
+
+def common_bottom(row):
+    """The least whole number that makes each ratio of a sequence whole."""
+    bottom = 1
+    for one in row:
+        bottom = lcm(bottom, one[1])
+    return bottom
 
 
 def ratio_text(one):

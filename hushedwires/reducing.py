@@ -1,7 +1,10 @@
 """Rows of ratios reduced by one another, with the shares that made them."""
 
-from hushedwires.ratios import ONE, ZERO, minus, over, times
+from math import gcd
 
+from hushedwires.ratios import ONE, ZERO, common_bottom, minus, over, times
+
+PRIME = (1 << 61) - 1
 
 class Reduced:
     """A sum of told rows that is 1 at its pivot, where the other reduced rows are 0.
@@ -62,3 +65,46 @@ def _less(row, factor, other):
     if factor == ZERO:
         return row
     return tuple([minus(one, times(factor, there)) for one, there in zip(row, other)])
+
+
+def rank_of_rows(rows):
+    """How many rows there are in a largest choice of which none is a sum of the others."""
+    if not rows:
+        return 0
+    wholes = [_primitive(row) for row in rows]
+    most = min(len(rows), len(rows[0]))
+    # the rank of remainders is never above the rank, and needs no long numbers
+    if _eliminated_rank(wholes, PRIME) == most:
+        return most
+    return _eliminated_rank(wholes, None)
+
+
+def _eliminated_rank(rows, modulus):
+    rows = [_shortened(row, modulus) for row in rows]
+    rank = 0
+    for place in range(len(rows[0])):
+        pivots = [row for row in rows if row[place] != 0]
+        if pivots:
+            rank += 1
+            rows = [row for row in rows if row[place] == 0]
+            rows = rows + [_shortened(_cancelled(place, row, pivots[0]), modulus) for row in pivots[1:]]
+    return rank
+
+
+def _cancelled(place, row, pivot):
+    return [pivot[place] * one - row[place] * other for one, other in zip(row, pivot)]
+
+
+def _shortened(wholes, modulus):
+    """The remainders, or, without a modulus, the whole numbers over their common divisor."""
+    if modulus is not None:
+        return [one % modulus for one in wholes]
+    common = 0
+    for one in wholes:
+        common = gcd(common, one)
+    return [one // common for one in wholes] if common > 1 else wholes
+
+
+def _primitive(row):
+    bottom = common_bottom(row)
+    return _shortened([one[0] * (bottom // one[1]) for one in row], None)

@@ -5,14 +5,21 @@ import unittest
 from types import GeneratorType
 
 from hushedwires.balances import Balance, Loud, balance_fault, balance_of, hushing_lengths
+from hushedwires.bounds import pairs_bound, plan_bar, rank_of, right_blocks
 from hushedwires.courses import Course, most_factor, noise_course
+from hushedwires.doubling import binomial_noises, double_line, double_word, join_words, sum_rows
+from hushedwires.further import all_further, count_further, further_word, hums_for, is_full
 from hushedwires.hums import binomial_hum, level_hum, mark_hum, noise_of, polynomial_hum, stretch_hum
+from hushedwires.layers import Layers, check_hums, first_word, layers_fault, layers_of
 from hushedwires.limits import (
     Clash, Limits, check_known, check_limits, hum_through, let_more, let_same, tighten, within_limits)
 from hushedwires.lines import Line, check_hum, check_marks
 from hushedwires.linetext import line_of, line_text
+from hushedwires.listing import count_hushed, hushed_by_number, hushed_number, hushed_words, least_crossed
 from hushedwires.loudest import Endless, Greatest, endless_fault, greatest_fault, greatest_noise
+from hushedwires.nesting import nest_hums, nest_lines, nest_plans, nest_spans, nest_words, weakest_order
 from hushedwires.orders import hushing_poles, loud_fault, loud_polynomial, order_noise, order_of
+from hushedwires.planlists import all_plans, count_plans, full_plans, most_pairs
 from hushedwires.plans import Between, Outside, Plan, first_heard, plan_hushed
 from hushedwires.quietest import Quiet, quietest_words
 from hushedwires.ratios import greatest_of, least_of, sum_of
@@ -20,6 +27,7 @@ from hushedwires.running import check_sums, never_louder, running_of, spare_part
 from hushedwires.sames import Apart, Made, holds_span, lean_hums, place_fault, place_hum, same_span
 from hushedwires.spans import (
     Heard, Span, check_span, degree_span, heard_by, hum_by_shares, is_hushed, noises_of, stretch_span)
+from hushedwires.splits import Split, split_hum, unheard_of
 from hushedwires.words import (
     backward_word, check_poles, check_signs, check_word, crossed_at, crossings_of, cut_word, each_word, number_of_word,
     opposite_of, product_of, turned_word, word_by_number, word_with)
@@ -36,6 +44,10 @@ KNOWN = [[0, (1, 1)], (2, (-1, 2))]
 HALF_KNOWN = ((0, (1, 1)),)
 SUMS = [(0, 1), (1, 1), (-1, 2), (0, 1), (0, 1)]
 PLAN = Plan(LINE, [OTHER, THIRD])
+EVEN = Line.even(4)
+LEVEL = degree_span(EVEN, 1)
+UPRIGHT = Plan(EVEN, [OTHER, THIRD])
+HUMS = [HUM, [(1, 1)] * 4]
 GREATEST = greatest_noise(LINE, WORD, LIMITS)
 
 CALLS = [
@@ -67,7 +79,18 @@ CALLS = [
     (greatest_fault, [LINE, WORD, LIMITS, GREATEST]), (endless_fault, [LINE, WORD, FREE, Endless(tuple(HUM))]),
     (quietest_words, [LINE, LIMITS, 2]), (noise_course, [LINE, WORD, LIMITS]), (noise_course, [LINE, WORD, FREE]),
     (most_factor, [LINE, WORD, LIMITS, (1, 1)]), (Plan, [LINE, [WORD, OTHER]]), (PLAN.with_word, [WORD]),
-    (PLAN.without, [0]), (PLAN.product_at, [0, 1]), (first_heard, [PLAN, SPAN, SPAN])]
+    (PLAN.without, [0]), (PLAN.product_at, [0, 1]), (first_heard, [PLAN, SPAN, SPAN]), (check_hums, [LINE, HUMS]),
+    (layers_of, [LINE, HUMS]), (first_word, [LINE, HUMS]), (first_word, [EVEN, [[(1, 1)] * 4]]),
+    (layers_fault, [LINE, HUMS, Layers(layers_of(LINE, HUMS))]), (hushed_words, [EVEN, LEVEL]), (count_hushed, [EVEN, LEVEL]),
+    (hushed_number, [EVEN, LEVEL, WORD]), (hushed_by_number, [EVEN, LEVEL, 1]), (least_crossed, [EVEN, LEVEL]),
+    (hums_for, [PLAN, SPAN, SPAN]), (further_word, [PLAN, SPAN, SPAN]), (further_word, [UPRIGHT, LEVEL, LEVEL]),
+    (all_further, [UPRIGHT, LEVEL, LEVEL]), (count_further, [UPRIGHT, LEVEL, LEVEL]), (is_full, [UPRIGHT, LEVEL, LEVEL]),
+    (all_plans, [EVEN, LEVEL, LEVEL, 2]), (count_plans, [EVEN, LEVEL, LEVEL, 2]), (most_pairs, [EVEN, LEVEL, LEVEL]),
+    (full_plans, [EVEN, LEVEL, LEVEL]), (pairs_bound, [4, 1, 1]), (right_blocks, [PLAN, 2, 3]), (rank_of, [LINE, HUMS]),
+    (plan_bar, [4, 2]), (split_hum, [UPRIGHT, HUM]), (unheard_of, [UPRIGHT, HUM]), (double_word, [WORD]),
+    (double_line, [LINE, (9, 1)]), (join_words, [WORD, OTHER]), (sum_rows, [WORD]), (binomial_noises, [WORD, 3]),
+    (nest_words, [WORD, OTHER]), (nest_lines, [LINE, EVEN, (9, 1)]), (nest_hums, [HUM, HUM]), (nest_spans, [LEVEL, SPAN]),
+    (nest_plans, [Plan(EVEN, [WORD]), PLAN, (5, 1)]), (weakest_order, [PLAN])]
 KNOWING = [(sums_cost, [LINE, WORD, LIMITS, SUMS]), (spare_parts, [LINE, WORD, LIMITS, [(1, 1)] * 4, SUMS]),
            (greatest_noise, [LINE, WORD, LIMITS]), (greatest_noise, [LINE, WORD, FREE]),
            (greatest_fault, [LINE, WORD, LIMITS, GREATEST]), (endless_fault, [LINE, WORD, FREE, Endless(tuple(HUM))])]
@@ -144,14 +167,16 @@ class PassedInTest(Case):
 
     def test_truths_are_truths(self):
         for told in (is_hushed(LINE, WORD, SPAN), holds_span(SPAN, SPAN), same_span(SPAN, SPAN),
-                     let_same(LIMITS, FREE), LINE.is_even, plan_hushed(PLAN, SPAN, None)):
+                     let_same(LIMITS, FREE), LINE.is_even, plan_hushed(PLAN, SPAN, None),
+                     is_full(PLAN, SPAN, SPAN), is_full(UPRIGHT, LEVEL, LEVEL)):
             self.assertIs(type(told), bool)
 
 
 class EqualTest(Case):
     def test_objects_equal_only_their_own_kind(self):
         made = [LINE, SPAN, LIMITS, PLAN, Heard(0, 0), Made(0), Apart(0), Balance(0), Loud(0, 0), Clash(0, 0),
-                Greatest(0, 0, 0), Endless(0), Quiet(0, 0), Course(0, 0), Outside(0, 0, 0), Between(0, 0, 0, 0)]
+                Greatest(0, 0, 0), Endless(0), Quiet(0, 0), Course(0, 0), Outside(0, 0, 0), Between(0, 0, 0, 0),
+                Layers(0), Split(0, 0, 0)]
         for number, one in enumerate(made):
             for place, other in enumerate(made):
                 self.assertIs(one == other, number == place)
@@ -173,6 +198,9 @@ class EqualTest(Case):
         self.assertEqual(vars(Course(corners=1, slope=2)), {"corners": 1, "slope": 2})
         self.assertEqual(vars(Outside(pair=1, hum=2, noise=3)), {"pair": 1, "hum": 2, "noise": 3})
         self.assertEqual(vars(Between(pair=1, other=2, hum=3, noise=4)), {"pair": 1, "other": 2, "hum": 3, "noise": 4})
+
+        self.assertEqual(vars(Layers(layers=1)), {"layers": 1})
+        self.assertEqual(vars(Split(level=1, shares=2, rest=3)), {"level": 1, "shares": 2, "rest": 3})
 
 
 if __name__ == "__main__":

@@ -34,7 +34,23 @@ FUNCTIONS = {
     "courses": "noise_course(line,word,limits) most_factor(line,word,limits,amount)",
     "plans": """check_pair(plan,pair) check_asked(line,span) first_heard(plan,outside,between)
         plan_hushed(plan,outside,between)""",
+    "layers": "check_hums(line,hums) layers_of(line,hums) first_word(line,hums) layers_fault(line,hums,layers)",
+    "listing": """hushed_words(line,span) count_hushed(line,span) hushed_number(line,span,word)
+        hushed_by_number(line,span,number) least_crossed(line,span)""",
+    "further": """hums_for(plan,outside,between) further_word(plan,outside,between) all_further(plan,outside,between)
+        count_further(plan,outside,between) is_full(plan,outside,between)""",
+    "planlists": """all_plans(line,outside,between,pairs) count_plans(line,outside,between,pairs)
+        most_pairs(line,outside,between) full_plans(line,outside,between)""",
+    "bounds": """pairs_bound(count,outside,between) right_blocks(plan,low,high) rank_of(line,hums)
+        plan_bar(count,degree)""",
+    "splits": "split_hum(plan,hum) unheard_of(plan,hum)",
+    "doubling": """double_word(word) double_line(line,step) join_words(word,other,*,crossed=False) sum_rows(word)
+        binomial_noises(word,many)""",
+    "nesting": """nest_words(outer,inner) nest_lines(outer,inner,size) nest_hums(outer,inner)
+        nest_spans(outer,inner) nest_plans(outer,inner,size) weakest_order(plan)""",
 }
+GENERATORS = {"words": ["each_word"], "listing": ["hushed_words"], "further": ["all_further"],
+              "planlists": ["all_plans", "full_plans"]}
 CLASSES = {
     "lines": {"Line(lengths,marks)": """cut_section(self,section,share,mark) backward(self) grown(self,size)
         shifted(self,step) joined_to(self,other,gap) even(count) __len__(self) __eq__(self,other)"""},
@@ -50,6 +66,8 @@ CLASSES = {
     "plans": {"Plan(line,words)": """product_at(self,pair,other) with_word(self,word) without(self,pair)
         __len__(self) __iter__(self) __eq__(self,other)""",
               "Outside(pair,hum,noise)": "", "Between(pair,other,hum,noise)": ""},
+    "layers": {"Layers(layers)": ""},
+    "splits": {"Split(level,shares,rest)": ""},
 }
 PROPERTIES = {"lines": {"Line": ["is_even"]}, "spans": {"Span": ["sections"]},
               "limits": {"Limits": ["free_poles", "free_stretches"]}}
@@ -91,6 +109,12 @@ class InterfaceTest(unittest.TestCase):
             for name, properties in told.items():
                 for one in properties:
                     self.assertIsInstance(vars(getattr(module_of(module), name))[one], property)
+
+    def test_generators(self):
+        for module, told in GENERATORS.items():
+            for name, _ in entries(FUNCTIONS[module]):
+                function = getattr(module_of(module), name)
+                self.assertEqual(inspect.isgeneratorfunction(function), name in told, name)
 
     def test_constants(self):
         for name in ("ZERO", "ONE", "HALF"):

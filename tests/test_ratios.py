@@ -5,9 +5,9 @@ from fractions import Fraction
 
 from hushedwires.errors import BadRatio
 from hushedwires.ratios import (
-    HALF, ONE, ZERO, compare, greatest_of, is_ratio, is_whole, least_of, make_ratio, minus, negative, over, plus,
-    power_of, ratio_of, ratio_text, size_of, sum_of, times)
-from tests.reckon import WRONG_RATIOS, WRONG_WHOLES, Case, fraction, no_rows, ratio
+    HALF, ONE, ZERO, common_bottom, compare, greatest_of, is_ratio, is_whole, least_of, long_plus, make_ratio, minus,
+    negative, over, plus, power_of, ratio_of, ratio_text, size_of, sum_of, times)
+from tests.reckon import WRONG_RATIOS, WRONG_WHOLES, Case, fraction, long_ratio, no_rows, ratio, seeded
 
 SMALL = [ratio(top, bottom) for top in range(-5, 6) for bottom in range(1, 5)]
 
@@ -96,6 +96,20 @@ class RatiosTest(Case):
         one, other = (10 ** 300 - 1, 10 ** 299 + 1), (3, 10 ** 299 + 7)
         self.assertEqual(plus(one, other), ratio(fraction(one) + fraction(other)))
         self.assertEqual(compare(one, other), 1)
+
+    def test_common_bottom(self):
+        self.assertEqual(common_bottom([]), 1)
+        self.assertEqual(common_bottom([(1, 4), (5, 6), (-7, 1), ZERO]), 12)
+
+    def test_long_plus(self):
+        for one in SMALL:
+            for other in SMALL:
+                self.assertEqual(long_plus(one, other), plus(one, other))
+        source = seeded(12)
+        for _ in range(20):
+            one, other = long_ratio(source), long_ratio(source, 20)
+            self.assertEqual(long_plus(one, other), ratio(fraction(one) + fraction(other)))
+            self.assertEqual(long_plus(one, (-one[0], one[1])), ZERO)
 
 
 class RatioTextTest(Case):
