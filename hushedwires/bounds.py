@@ -2,27 +2,21 @@
 
 from math import comb
 
-from hushedwires.errors import BadCount, BadDegree
+from hushedwires.errors import BadCount
 from hushedwires.hums import mark_hum, signed_hum
 from hushedwires.layers import check_hums
 from hushedwires.lines import MOST_SECTIONS
 from hushedwires.ratios import is_whole
 from hushedwires.reducing import rank_of_rows
-
-MOST_DEGREE = 6
-
-
-def _check_degree(degree):
-    if not is_whole(degree, 0, MOST_DEGREE):
-        raise BadDegree(degree)
+from hushedwires.spans import check_degree
 
 
 def pairs_bound(count, outside, between):
     """The most pairs that blocks at right angles leave room for; None if between is 0."""
     if not is_whole(count, 1, MOST_SECTIONS):
         raise BadCount()
-    _check_degree(outside)
-    _check_degree(between)
+    check_degree(outside)
+    check_degree(between)
     bounds = [_bound_by(count, outside, height) for height in range(1, (between + 1) // 2 + 1)]
     return min(bounds) if bounds else None
 
@@ -34,8 +28,8 @@ def _bound_by(count, outside, height):
 
 def right_blocks(plan, low, high):
     """The powers of the marks, and for each pair these powers with its signs."""
-    _check_degree(low)
-    _check_degree(high)
+    check_degree(low)
+    check_degree(high)
     powers = [mark_hum(plan.line, power) for power in range(max(low, high))]
     blocks = [tuple(powers[:low])]
     for word in plan.words:
@@ -52,7 +46,7 @@ def plan_bar(count, degree):
     """The least j up to the degree for which "count over j" is no multiple of 4, or None."""
     if not is_whole(count, 1, MOST_SECTIONS):
         raise BadCount()
-    _check_degree(degree)
+    check_degree(degree)
     for lower in range(1, degree + 1):
         if comb(count, lower) % 4 != 0:
             return lower

@@ -53,6 +53,13 @@ def check_span(line, span):
     return span
 
 
+def check_degree(degree):
+    """A degree from 0 to 6, of which 0 asks nothing."""
+    if not is_whole(degree, 0, MOST_TOLD):
+        raise BadDegree(degree)
+    return degree
+
+
 def degree_span(line, degree):
     """The span of the powers of the marks below the degree."""
     if not is_whole(degree, 1, MOST_TOLD):

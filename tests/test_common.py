@@ -6,8 +6,12 @@ from types import GeneratorType
 
 from hushedwires.balances import Balance, Loud, balance_fault, balance_of, hushing_lengths
 from hushedwires.bounds import pairs_bound, plan_bar, rank_of, right_blocks
+from hushedwires.chains import Chain
 from hushedwires.courses import Course, most_factor, noise_course
 from hushedwires.doubling import binomial_noises, double_line, double_word, join_words, sum_rows
+from hushedwires.extents import Extents, hushed_extents, order_at, plan_extents
+from hushedwires.folding import fold_lengths, is_prime_word, unfold_word, unfoldings_of
+from hushedwires.forms import form_at, form_fault, form_of, noise_at
 from hushedwires.further import all_further, count_further, further_word, hums_for, is_full
 from hushedwires.hums import binomial_hum, level_hum, mark_hum, noise_of, polynomial_hum, stretch_hum
 from hushedwires.layers import Layers, check_hums, first_word, layers_fault, layers_of
@@ -15,12 +19,18 @@ from hushedwires.limits import (
     Clash, Limits, check_known, check_limits, hum_through, let_more, let_same, tighten, within_limits)
 from hushedwires.lines import Line, check_hum, check_marks
 from hushedwires.linetext import line_of, line_text
+from hushedwires.linking import (
+    all_links, check_links, exchange_links, links_of, nest_links, way_between, way_fault)
 from hushedwires.listing import count_hushed, hushed_by_number, hushed_number, hushed_words, least_crossed
 from hushedwires.loudest import Endless, Greatest, endless_fault, greatest_fault, greatest_noise
+from hushedwires.mirrors import mirror_of, mirrored_words, mirrors_itself
 from hushedwires.nesting import nest_hums, nest_lines, nest_plans, nest_spans, nest_words, weakest_order
 from hushedwires.orders import hushing_poles, loud_fault, loud_polynomial, order_noise, order_of
+from hushedwires.patterns import (
+    Pattern, count_steady, least_pattern, product_pattern, repeat_pattern, steady_patterns, unlike_at)
 from hushedwires.planlists import all_plans, count_plans, full_plans, most_pairs
 from hushedwires.plans import Between, Outside, Plan, first_heard, plan_hushed
+from hushedwires.primes import count_primes, prime_words
 from hushedwires.quietest import Quiet, quietest_words
 from hushedwires.ratios import greatest_of, least_of, sum_of
 from hushedwires.running import check_sums, never_louder, running_of, spare_parts, sums_cost
@@ -48,6 +58,9 @@ EVEN = Line.even(4)
 LEVEL = degree_span(EVEN, 1)
 UPRIGHT = Plan(EVEN, [OTHER, THIRD])
 HUMS = [HUM, [(1, 1)] * 4]
+LINKS, EXCHANGED = [[1, 1, 1], [1, -1]], [[1, -1], [1, -1, 1]]
+CHAIN = Chain([WORD, [1, 1, -1]])
+PATTERN, SHORT = Pattern(WORD), Pattern([1, -1, -1])
 GREATEST = greatest_noise(LINE, WORD, LIMITS)
 
 CALLS = [
@@ -90,7 +103,18 @@ CALLS = [
     (plan_bar, [4, 2]), (split_hum, [UPRIGHT, HUM]), (unheard_of, [UPRIGHT, HUM]), (double_word, [WORD]),
     (double_line, [LINE, (9, 1)]), (join_words, [WORD, OTHER]), (sum_rows, [WORD]), (binomial_noises, [WORD, 3]),
     (nest_words, [WORD, OTHER]), (nest_lines, [LINE, EVEN, (9, 1)]), (nest_hums, [HUM, HUM]), (nest_spans, [LEVEL, SPAN]),
-    (nest_plans, [Plan(EVEN, [WORD]), PLAN, (5, 1)]), (weakest_order, [PLAN])]
+    (nest_plans, [Plan(EVEN, [WORD]), PLAN, (5, 1)]), (weakest_order, [PLAN]),
+    (mirror_of, [WORD]), (mirrors_itself, [LINE]), (mirrored_words, [5]), (fold_lengths, [WORD]), (unfold_word, [WORD, 2]),
+    (unfoldings_of, [WORD]), (is_prime_word, [WORD]), (check_links, [LINKS]), (nest_links, [LINKS]), (all_links, [WORD]),
+    (links_of, [WORD]), (exchange_links, [LINKS, 0]), (way_between, [LINKS, EXCHANGED]),
+    (way_fault, [LINKS, EXCHANGED, [0]]), (prime_words, [4]), (count_primes, [12]), (Chain, [LINKS]), (CHAIN.sign_at, [3]),
+    (CHAIN.running_at, [3]), (CHAIN.noises_to, [3]), (CHAIN.widest_sums, []), (CHAIN.written, []),
+    (CHAIN.nest_around, [CHAIN]), (Pattern, [WORD]), (PATTERN.sign_at, [9]), (PATTERN.word_at, [9]),
+    (repeat_pattern, [PATTERN, 3]), (product_pattern, [PATTERN, SHORT]), (least_pattern, [PATTERN]),
+    (unlike_at, [PATTERN, SHORT]), (steady_patterns, [4, (2, 1)]), (count_steady, [4, (2, 1)]), (noise_at, [SHORT, 2, 10]),
+    (form_of, [SHORT, 1, 0]), (form_at, [HUM, 3]), (form_fault, [SHORT, 1, 0, HUM]), (hushed_extents, [SHORT, 1]),
+    (order_at, [PATTERN, 8]), (plan_extents, [[PATTERN, SHORT], 1, 1]), (hushed_extents(SHORT, 1).holds, [4]),
+    (hushed_extents(SHORT, 1).next_after, [3]), (hushed_extents(SHORT, 1).many_upto, [3])]
 KNOWING = [(sums_cost, [LINE, WORD, LIMITS, SUMS]), (spare_parts, [LINE, WORD, LIMITS, [(1, 1)] * 4, SUMS]),
            (greatest_noise, [LINE, WORD, LIMITS]), (greatest_noise, [LINE, WORD, FREE]),
            (greatest_fault, [LINE, WORD, LIMITS, GREATEST]), (endless_fault, [LINE, WORD, FREE, Endless(tuple(HUM))])]
@@ -168,7 +192,8 @@ class PassedInTest(Case):
     def test_truths_are_truths(self):
         for told in (is_hushed(LINE, WORD, SPAN), holds_span(SPAN, SPAN), same_span(SPAN, SPAN),
                      let_same(LIMITS, FREE), LINE.is_even, plan_hushed(PLAN, SPAN, None),
-                     is_full(PLAN, SPAN, SPAN), is_full(UPRIGHT, LEVEL, LEVEL)):
+                     is_full(PLAN, SPAN, SPAN), is_full(UPRIGHT, LEVEL, LEVEL), mirrors_itself(LINE), mirrors_itself(EVEN),
+                     is_prime_word(WORD), is_prime_word([1, -1]), hushed_extents(SHORT, 1).holds(4)):
             self.assertIs(type(told), bool)
 
 
@@ -176,7 +201,7 @@ class EqualTest(Case):
     def test_objects_equal_only_their_own_kind(self):
         made = [LINE, SPAN, LIMITS, PLAN, Heard(0, 0), Made(0), Apart(0), Balance(0), Loud(0, 0), Clash(0, 0),
                 Greatest(0, 0, 0), Endless(0), Quiet(0, 0), Course(0, 0), Outside(0, 0, 0), Between(0, 0, 0, 0),
-                Layers(0), Split(0, 0, 0)]
+                Layers(0), Split(0, 0, 0), CHAIN, PATTERN, Extents(0, 0)]
         for number, one in enumerate(made):
             for place, other in enumerate(made):
                 self.assertIs(one == other, number == place)
@@ -201,6 +226,7 @@ class EqualTest(Case):
 
         self.assertEqual(vars(Layers(layers=1)), {"layers": 1})
         self.assertEqual(vars(Split(level=1, shares=2, rest=3)), {"level": 1, "shares": 2, "rest": 3})
+        self.assertEqual(vars(Extents(period=1, rows=2)), {"period": 1, "rows": 2})
 
 
 if __name__ == "__main__":

@@ -48,9 +48,21 @@ FUNCTIONS = {
         binomial_noises(word,many)""",
     "nesting": """nest_words(outer,inner) nest_lines(outer,inner,size) nest_hums(outer,inner)
         nest_spans(outer,inner) nest_plans(outer,inner,size) weakest_order(plan)""",
+    "mirrors": "mirror_of(word) mirrors_itself(line) mirrored_words(count,*,turned=False)",
+    "folding": "fold_lengths(word) unfold_word(word,length) unfoldings_of(word) is_prime_word(word)",
+    "linking": """check_links(links) links_of(word) exchange_links(links,place) nest_links(links) all_links(word)
+        way_between(links,other) way_fault(links,other,way)""",
+    "primes": "prime_words(count) count_primes(length)",
+    "built": "shortest_for(order)",
+    "patterns": """repeat_pattern(pattern,repeats) product_pattern(one,other) least_pattern(pattern)
+        unlike_at(one,other) steady_patterns(period,bound) count_steady(period,bound)""",
+    "forms": """noise_at(pattern,power,extent) form_at(form,repeats) form_of(pattern,power,rest)
+        form_fault(pattern,power,rest,form)""",
+    "extents": "hushed_extents(pattern,degree) plan_extents(patterns,outside,between) order_at(pattern,extent)",
 }
 GENERATORS = {"words": ["each_word"], "listing": ["hushed_words"], "further": ["all_further"],
-              "planlists": ["all_plans", "full_plans"]}
+              "planlists": ["all_plans", "full_plans"], "mirrors": ["mirrored_words"], "linking": ["all_links"],
+              "primes": ["prime_words"], "patterns": ["steady_patterns"]}
 CLASSES = {
     "lines": {"Line(lengths,marks)": """cut_section(self,section,share,mark) backward(self) grown(self,size)
         shifted(self,step) joined_to(self,other,gap) even(count) __len__(self) __eq__(self,other)"""},
@@ -68,9 +80,15 @@ CLASSES = {
               "Outside(pair,hum,noise)": "", "Between(pair,other,hum,noise)": ""},
     "layers": {"Layers(layers)": ""},
     "splits": {"Split(level,shares,rest)": ""},
+    "chains": {"Chain(links)": """sign_at(self,section) running_at(self,section) noises_to(self,many)
+        widest_sums(self) written(self) nest_around(self,inner) __len__(self) __iter__(self) __eq__(self,other)"""},
+    "patterns": {"Pattern(signs)": """sign_at(self,section) word_at(self,extent) __len__(self)
+        __eq__(self,other)"""},
+    "extents": {"Extents(period,rows)": "holds(self,extent) next_after(self,extent) many_upto(self,extent)"},
 }
 PROPERTIES = {"lines": {"Line": ["is_even"]}, "spans": {"Span": ["sections"]},
-              "limits": {"Limits": ["free_poles", "free_stretches"]}}
+              "limits": {"Limits": ["free_poles", "free_stretches"]},
+              "chains": {"Chain": ["sections", "chain_order", "crossing_count", "chain_noise"]}}
 STATIC = {"Line": ["even"], "Limits": ["alike"]}
 
 
@@ -111,10 +129,11 @@ class InterfaceTest(unittest.TestCase):
                     self.assertIsInstance(vars(getattr(module_of(module), name))[one], property)
 
     def test_generators(self):
-        for module, told in GENERATORS.items():
-            for name, _ in entries(FUNCTIONS[module]):
+        for module, text in FUNCTIONS.items():
+            for name, _ in entries(text):
                 function = getattr(module_of(module), name)
-                self.assertEqual(inspect.isgeneratorfunction(function), name in told, name)
+                self.assertEqual(inspect.isgeneratorfunction(function), name in GENERATORS.get(module, ()), name)
+        self.assertEqual(sum(map(len, GENERATORS.values())), 9)
 
     def test_constants(self):
         for name in ("ZERO", "ONE", "HALF"):
