@@ -49,9 +49,9 @@ def each_clique(friends, chosen, left, many):
 
 
 def count_cliques(friends, left, many):
-    """How many lots of so many friends there are among those left."""
-    if many < 2:
-        return many_in(left) if many == 1 else 1
+    """How many lots of so many friends, one or more, there are among those left."""
+    if many == 1:
+        return many_in(left)
     total = 0
     while left:
         place = first_in(left)

@@ -1,11 +1,11 @@
 """Words, lines, hums, spans and plans nested in one another."""
 
-from hushedwires.errors import BadPlan, BadSize, BadSpan, TooMany
+from hushedwires.errors import BadSize, TooMany
 from hushedwires.lines import MOST_SECTIONS, Line, check_hum
 from hushedwires.orders import order_of
-from hushedwires.plans import MOST_PAIRS, Plan
+from hushedwires.plans import Plan
 from hushedwires.ratios import compare, is_above_zero, is_row, minus, plus, times
-from hushedwires.spans import MOST_TOLD, Span
+from hushedwires.spans import Span
 from hushedwires.words import check_signs
 
 
@@ -63,16 +63,12 @@ def _check_any_hum(hum):
 def nest_spans(outer, inner):
     """The span of all nested hums."""
     _check_room(outer.sections, inner.sections)
-    if len(outer) * len(inner) > MOST_TOLD:
-        raise BadSpan(0, "many")
     return Span([_nested_row(hum, other) for hum in outer.hums for other in inner.hums])
 
 
 def nest_plans(outer, inner, size):
     """The plan of all words nested of words of both plans and of words of + alone."""
     line = nest_lines(outer.line, inner.line, size)
-    if (len(outer) + 1) * (len(inner) + 1) - 1 > MOST_PAIRS:
-        raise BadPlan(0, "many")
     outer_plain = (1,) * len(outer.line)
     inner_plain = (1,) * len(inner.line)
     words = [nested_signs(word, inner_plain) for word in outer.words]
