@@ -49,7 +49,7 @@ class Extents:
             if row[0] == "all":
                 upto = (extent - rest) // self.period + 1
                 many = many + (upto - 1 if rest == 0 else upto)
-            if row[0] == "one" and row[1] * self.period + rest <= extent:
+            if row[0] == "one" and 0 < row[1] * self.period + rest <= extent:
                 many = many + 1
         return many
 

@@ -123,6 +123,9 @@ class MethodsTest(Case):
         self.assertIsNone(one.next_after(2 * 10 ** 28 + 1))
         self.assertEqual([one.many_upto(2 * 10 ** 28), one.many_upto(2 * 10 ** 28 + 1), one.many_upto(far)], [0, 1, 1])
         self.assertIsNone(Extents(1, (NONE,)).next_after(0))
+        # no section is no extent
+        self.assertEqual(Extents(1, (("one", 0),)).many_upto(9), 0)
+        self.assertIsNone(Extents(1, (("one", 0),)).next_after(0))
 
     def test_refuses(self):
         told = hushed_extents(TURN, 1)
