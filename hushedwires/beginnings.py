@@ -64,6 +64,15 @@ def _endings_before(steps, section, layer, endings):
     return before
 
 
+def ways_behind(ways, step):
+    """By their sums, how many rows there are if each goes on with the step or less the step."""
+    behind = {}
+    for total in ways:
+        for reached in (total + step, total - step):
+            behind[reached] = behind.get(reached, 0) + ways[total]
+    return behind
+
+
 def hushed_endings(steps):
     """The counted endings of all words whose row is the row of zeros."""
     return counted_endings(steps, packed_layers(steps))

@@ -15,7 +15,8 @@ def check_extent(extent, low=1):
     return extent
 
 
-def _check_power(power):
+def check_power(power):
+    """Checks a power of the sections, from 0 to 6."""
     if not is_whole(power, 0, MOST_POWER):
         raise BadPower()
 
@@ -32,7 +33,7 @@ def _check_form(form):
 
 def noise_at(pattern, power, extent):
     """The noise of the word at an extent under a power of the sections."""
-    _check_power(power)
+    check_power(power)
     return any_noise(pattern, power, check_extent(extent))
 
 
@@ -44,19 +45,29 @@ def any_noise(pattern, power, extent):
 
 def form_of(pattern, power, rest):
     """The coefficients of the noise at repeats * period + rest, the constant first."""
-    _check_power(power)
+    check_power(power)
     _check_rest(pattern, rest)
     return any_form(pattern, power, rest)
 
 
 def any_form(pattern, power, rest):
     """The form for any power from 0 on."""
-    differences = _first_differences(_first_noises(pattern, power, rest, power + 2))
+    differences = noise_differences(pattern, power, rest)
     # the noise is d[0] + n * (d[1] + (n - 1) / 2 * (d[2] + (n - 2) / 3 * (..)))
-    form = (differences[-1],)
+    form = ((differences[-1], 1),)
     for step in reversed(range(power + 1)):
-        form = _times_next(form, step, differences[step])
+        form = _times_next(form, step, (differences[step], 1))
     return form
+
+
+def noise_differences(pattern, power, rest):
+    """The first one of the noises, of their differences, of the differences of these, and so on."""
+    values = _first_noises(pattern, power, rest, power + 2)
+    firsts = []
+    while values:
+        firsts.append(values[0])
+        values = [after - before for before, after in zip(values, values[1:])]
+    return firsts
 
 
 def _first_noises(pattern, power, rest, many):
@@ -64,18 +75,10 @@ def _first_noises(pattern, power, rest, many):
     total = 0
     for section in range((many - 1) * pattern.period + rest + 1):
         if section % pattern.period == rest:
-            noises.append((total, 1))
+            noises.append(total)
         sign = pattern.signs[section % pattern.period]
         total = total + sign * power_of((section, 1), power)[0]
     return noises
-
-
-def _first_differences(values):
-    firsts = []
-    while values:
-        firsts.append(values[0])
-        values = [minus(after, before) for before, after in zip(values, values[1:])]
-    return firsts
 
 
 def _times_next(form, step, constant):
@@ -104,7 +107,7 @@ def value_of(form, repeats):
 
 def form_fault(pattern, power, rest, form):
     """The least repeats at which the value of a form is wrong, or None if it is right for all."""
-    _check_power(power)
+    check_power(power)
     _check_rest(pattern, rest)
     _check_form(form)
     right = any_form(pattern, power, rest)

@@ -3,17 +3,14 @@
 from hushedwires.beginnings import count_of, hushed_endings, is_hushed_row, packed_steps, word_of_number
 from hushedwires.hums import signed_hum
 from hushedwires.layers import first_word
-from hushedwires.plans import check_asked
+from hushedwires.plans import asked_hums
 
 
 def hums_for(plan, outside, between):
     """The hums under which a word has noise 0 just if it is a further word."""
-    check_asked(plan.line, outside)
-    check_asked(plan.line, between)
-    hums = [] if outside is None else list(outside.hums)
-    if between is not None:
-        hums = hums + [signed_hum(word, hum) for word in plan.words for hum in between.hums]
-    return tuple(hums)
+    alone = asked_hums(plan.line, outside)
+    paired = asked_hums(plan.line, between)
+    return alone + tuple([signed_hum(word, hum) for word in plan.words for hum in paired])
 
 
 def further_word(plan, outside, between):

@@ -15,8 +15,12 @@ def noise_of(line, word, hum):
     """The sum of length * sign * hum over all sections."""
     word = check_word(line, word)
     hum = check_hum(len(line), hum)
-    return sum_of([_signed(sign, times(length, entry))
-                   for length, sign, entry in zip(line.lengths, word, hum)])
+    return sum_of(noise_parts(line, word, hum))
+
+
+def noise_parts(line, signs, hum):
+    """What each section adds to the noise of these signs."""
+    return [_signed(sign, times(length, entry)) for length, sign, entry in zip(line.lengths, signs, hum)]
 
 
 def _signed(sign, one):

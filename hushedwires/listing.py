@@ -3,15 +3,14 @@
 from hushedwires.beginnings import (
     count_of, counted_endings, hushed_endings, number_of_hushed, packed_layers, packed_steps, word_of_number)
 from hushedwires.errors import BadNumber, NotHushed
-from hushedwires.plans import check_asked
+from hushedwires.plans import asked_hums
 from hushedwires.ratios import is_whole
 from hushedwires.spans import heard_by
 from hushedwires.words import check_word
 
 
 def _steps_for(line, span):
-    check_asked(line, span)
-    return packed_steps(line, () if span is None else span.hums)
+    return packed_steps(line, asked_hums(line, span))
 
 
 def hushed_words(line, span):

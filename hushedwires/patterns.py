@@ -2,6 +2,7 @@
 
 from math import lcm
 
+from hushedwires.beginnings import ways_behind
 from hushedwires.errors import (
     BadBound, BadExtent, BadPattern, BadPeriod, BadRepeats, BadWord, NoSection, TooMany)
 from hushedwires.lines import MOST_SECTIONS
@@ -117,18 +118,9 @@ def count_steady(period, bound):
     widest = bound[0] // bound[1]
     counts = _counts_within({1: 1}, widest)
     for _ in range(period - 1):
-        counts = _counts_within(_counts_behind(counts), widest)
+        counts = _counts_within(ways_behind(counts, 1), widest)
     return counts.get(0, 0)
 
 
 def _counts_within(counts, widest):
     return {total: counts[total] for total in counts if abs(total) <= widest}
-
-
-def _counts_behind(counts):
-    """By their sums, how many rows there are with one sign more."""
-    behind = {}
-    for total in counts:
-        for sign in (1, -1):
-            behind[total + sign] = behind.get(total + sign, 0) + counts[total]
-    return behind

@@ -3,7 +3,7 @@
 from hushedwires.beginnings import packed_steps
 from hushedwires.cliques import count_cliques, each_clique, each_full_clique, holds_clique
 from hushedwires.errors import BadPairs, TooMany
-from hushedwires.plans import MOST_PAIRS, Plan, check_asked
+from hushedwires.plans import MOST_PAIRS, Plan, asked_hums, check_asked
 from hushedwires.ratios import is_whole
 from hushedwires.words import word_by_number
 
@@ -30,7 +30,7 @@ class Company:
 
 def _hushed_numbers(line, span):
     """For the number of each word of the line whether it is hushed."""
-    steps = packed_steps(line, () if span is None else span.hums)
+    steps = packed_steps(line, asked_hums(line, span))
     rows = [steps[0]]
     for step in steps[1:]:
         rows = [row + sign * step for row in rows for sign in (1, -1)]

@@ -90,6 +90,11 @@ def check_asked(line, span):
     return None if span is None else check_span(line, span)
 
 
+def asked_hums(line, span):
+    """The told hums of what is asked; none for None."""
+    return () if check_asked(line, span) is None else span.hums
+
+
 def first_heard(plan, outside, between):
     """The first noise outside or between that is not 0, or None."""
     check_asked(plan.line, outside)

@@ -128,6 +128,11 @@ def sum_of(row):
     return total
 
 
+def sum_of_products(row, other):
+    """The sum of the products of two sequences of ratios, entry by entry."""
+    return sum_of([times(one, against) for one, against in zip(row, other)])
+
+
 def least_of(row):
     """The least of one ratio or more."""
     least = row[0]

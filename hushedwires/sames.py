@@ -1,7 +1,7 @@
 """Whether hums belong to spans, and which spans are the same."""
 
 from hushedwires.lines import check_hum
-from hushedwires.ratios import ONE, ZERO, is_ratio_row, negative, sum_of, times
+from hushedwires.ratios import ONE, ZERO, is_ratio_row, negative, sum_of_products
 from hushedwires.reducing import first_unlike_zero, reduced_rows, rest_of
 from hushedwires.spans import hum_by_shares
 
@@ -53,13 +53,9 @@ def place_fault(span, hum, told):
         return None if hum_by_shares(span, told.shares) == hum else "hum"
     if not isinstance(told, Apart) or not is_ratio_row(told.row, span.sections, span.sections):
         return "told"
-    if not all([_crossed_sum(told.row, one) == ZERO for one in span.hums]):
+    if not all([sum_of_products(told.row, one) == ZERO for one in span.hums]):
         return "span"
-    return "hum" if _crossed_sum(told.row, hum) == ZERO else None
-
-
-def _crossed_sum(row, hum):
-    return sum_of([times(one, entry) for one, entry in zip(row, hum)])
+    return "hum" if sum_of_products(told.row, hum) == ZERO else None
 
 
 def lean_hums(span):

@@ -4,7 +4,7 @@ from hushedwires.errors import NotUpright
 from hushedwires.hums import level_hum, noise_of
 from hushedwires.lines import check_hum
 from hushedwires.plans import Outside, first_heard
-from hushedwires.ratios import minus, negative, over, plus, sum_of, times
+from hushedwires.ratios import minus, negative, over, plus, sum_of, sum_of_products, times
 from hushedwires.spans import Span
 
 
@@ -28,16 +28,12 @@ def _check_upright(plan):
         raise NotUpright(heard.pair, None if isinstance(heard, Outside) else heard.other)
 
 
-def _weighed_sum(line, entries):
-    return sum_of([times(length, entry) for length, entry in zip(line.lengths, entries)])
-
-
 def split_hum(plan, hum):
     """The level, the shares and the rest that add up to the hum."""
     hum = check_hum(len(plan.line), hum)
     _check_upright(plan)
     whole = sum_of(plan.line.lengths)
-    level = over(_weighed_sum(plan.line, hum), whole)
+    level = over(sum_of_products(plan.line.lengths, hum), whole)
     shares = tuple([over(noise_of(plan.line, word, hum), whole) for word in plan.words])
     rest = tuple([minus(entry, _entry_of(level, shares, plan.words, section))
                   for section, entry in enumerate(hum)])
@@ -56,6 +52,6 @@ def unheard_of(plan, hum):
     hum = check_hum(len(plan.line), hum)
     _check_upright(plan)
     squares = [times(entry, entry) for entry in hum]
-    unheard = times(sum_of(plan.line.lengths), _weighed_sum(plan.line, squares))
-    heard = [_weighed_sum(plan.line, hum)] + [noise_of(plan.line, word, hum) for word in plan.words]
-    return minus(unheard, sum_of([times(one, one) for one in heard]))
+    unheard = times(sum_of(plan.line.lengths), sum_of_products(plan.line.lengths, squares))
+    heard = [sum_of_products(plan.line.lengths, hum)] + [noise_of(plan.line, word, hum) for word in plan.words]
+    return minus(unheard, sum_of_products(heard, heard))

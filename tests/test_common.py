@@ -4,9 +4,12 @@ import copy
 import unittest
 from types import GeneratorType
 
+from hushedwires.armwords import arm_words, count_arm_words, lone_spot
 from hushedwires.balances import Balance, Loud, balance_fault, balance_of, hushing_lengths
+from hushedwires.bench import Bench
 from hushedwires.bounds import pairs_bound, plan_bar, rank_of, right_blocks
 from hushedwires.chains import Chain
+from hushedwires.changes import check_changes, plan_after
 from hushedwires.courses import Course, most_factor, noise_course
 from hushedwires.doubling import binomial_noises, double_line, double_word, join_words, sum_rows
 from hushedwires.extents import Extents, hushed_extents, order_at, plan_extents
@@ -15,6 +18,8 @@ from hushedwires.forms import form_at, form_fault, form_of, noise_at
 from hushedwires.further import all_further, count_further, further_word, hums_for, is_full
 from hushedwires.hums import binomial_hum, level_hum, mark_hum, noise_of, polynomial_hum, stretch_hum
 from hushedwires.layers import Layers, check_hums, first_word, layers_fault, layers_of
+from hushedwires.layouts import (
+    Layout, check_legs, exchanged_layout, moves_of, spot_couples, still_layout, turning_layout)
 from hushedwires.limits import (
     Clash, Limits, check_known, check_limits, hum_through, let_more, let_same, tighten, within_limits)
 from hushedwires.lines import Line, check_hum, check_marks
@@ -23,7 +28,10 @@ from hushedwires.linking import (
     all_links, check_links, exchange_links, links_of, nest_links, way_between, way_fault)
 from hushedwires.listing import count_hushed, hushed_by_number, hushed_number, hushed_words, least_crossed
 from hushedwires.loudest import Endless, Greatest, endless_fault, greatest_fault, greatest_noise
+from hushedwires.louds import QuietExtents, Reached, greatest_upto, loud_from, quiet_extents
+from hushedwires.mends import Mends, Spoiler, find_mends, find_spoilers, mends_fault
 from hushedwires.mirrors import mirror_of, mirrored_words, mirrors_itself
+from hushedwires.nearest import Nearest, nearest_hushed
 from hushedwires.nesting import nest_hums, nest_lines, nest_plans, nest_spans, nest_words, weakest_order
 from hushedwires.orders import hushing_poles, loud_fault, loud_polynomial, order_noise, order_of
 from hushedwires.patterns import (
@@ -33,15 +41,30 @@ from hushedwires.plans import Between, Outside, Plan, first_heard, plan_hushed
 from hushedwires.primes import count_primes, prime_words
 from hushedwires.quietest import Quiet, quietest_words
 from hushedwires.ratios import greatest_of, least_of, sum_of
+from hushedwires.roundabouts import Round, by_way, first_round, round_table, roundabout_of
 from hushedwires.running import check_sums, never_louder, running_of, spare_parts, sums_cost
 from hushedwires.sames import Apart, Made, holds_span, lean_hums, place_fault, place_hum, same_span
+from hushedwires.shifts import (
+    Fixed, Hushing, Least, hushing_fault, hushing_shifts, least_slack, slack_fault)
+from hushedwires.slacks import ShiftRange, check_shifts, check_slacks, shifted_line, shifts_meeting, slack_range
 from hushedwires.spans import (
     Heard, Span, check_span, degree_span, heard_by, hum_by_shares, is_hushed, noises_of, stretch_span)
 from hushedwires.splits import Split, split_hum, unheard_of
+from hushedwires.strengths import (
+    CoupleHeard, GroupHeard, SpotHeard, StrengthRange, arm_heard, couple_noise, couple_sums, group_heard,
+    heard_strengths, loudest_strengths, spot_noise, spot_sums)
+from hushedwires.talks import (
+    ReachHeard, TalkHeard, further_talk, least_talk, stand_sums, swap_word, talk_lots, talk_noise, talk_reaches)
+from hushedwires.telling import Alike, Ask, Found, Stuck, best_tree, follow_tree, least_pools, told_apart
+from hushedwires.ties import steps_noise, tied_noise
+from hushedwires.turning import Turned, finer_line, finer_row, finer_span, turn_plan
+from hushedwires.wishes import Broken, Lacking, check_wishes, first_broken, grants_all
 from hushedwires.words import (
     backward_word, check_poles, check_signs, check_word, crossed_at, crossings_of, cut_word, each_word, number_of_word,
     opposite_of, product_of, turned_word, word_by_number, word_with)
 from hushedwires.wordtext import hum_of, hum_text, word_of, word_text, words_of, words_text
+from hushedwires.wrongs import (
+    check_tests, lots_that_fit, read_tests, sure_right, sure_wrong, telling_hum, word_of_reading, wrong_lots, wrong_word)
 from tests.reckon import Case, is_true_ratio
 
 LINE = Line([(1, 1), (3, 2), (2, 1), (1, 1)], [(-1, 1), (0, 1), (1, 2), (3, 1)])
@@ -62,6 +85,15 @@ LINKS, EXCHANGED = [[1, 1, 1], [1, -1]], [[1, -1], [1, -1, 1]]
 CHAIN = Chain([WORD, [1, 1, -1]])
 PATTERN, SHORT = Pattern(WORD), Pattern([1, -1, -1])
 GREATEST = greatest_noise(LINE, WORD, LIMITS)
+ARM = Layout(3, [[0, 1], [0, 2], [1, 0], [2, 0]])
+THREE = Plan(EVEN, [OTHER, THIRD, WORD])
+ARM_OF_THREE = Layout(3, [[0, 1, 2], [0, 2, 1], [1, 0, 2], [2, 0, 1]])
+STRENGTHS = [(1, 1), (-1, 2), (2, 1)]
+SLACKS = [(1, 4), (1, 2), (1, 4)]
+READINGS = [(1, 1), (1, 2)]
+CHANGES = [["cross", 0, 1], ("add", [1, 1, 1, -1]), ["strike", 1]]
+WISHES = [["all hushed", 1], ("at most", 0, LIMITS, (1, 1)), ["pairs", 1]]
+BENCH = Bench(PLAN)
 
 CALLS = [
     (sum_of, [HUM]), (least_of, [HUM]), (greatest_of, [HUM]),
@@ -114,7 +146,36 @@ CALLS = [
     (unlike_at, [PATTERN, SHORT]), (steady_patterns, [4, (2, 1)]), (count_steady, [4, (2, 1)]), (noise_at, [SHORT, 2, 10]),
     (form_of, [SHORT, 1, 0]), (form_at, [HUM, 3]), (form_fault, [SHORT, 1, 0, HUM]), (hushed_extents, [SHORT, 1]),
     (order_at, [PATTERN, 8]), (plan_extents, [[PATTERN, SHORT], 1, 1]), (hushed_extents(SHORT, 1).holds, [4]),
-    (hushed_extents(SHORT, 1).next_after, [3]), (hushed_extents(SHORT, 1).many_upto, [3])]
+    (hushed_extents(SHORT, 1).next_after, [3]), (hushed_extents(SHORT, 1).many_upto, [3]),
+    (quiet_extents, [SHORT, 1, (5, 1)]), (loud_from, [SHORT, 1, (5, 1)]), (greatest_upto, [SHORT, 1, 9]),
+    (quiet_extents(SHORT, 0, (5, 1)).holds, [9]), (quiet_extents(SHORT, 0, (5, 1)).last_extent, []),
+    (steps_noise, [PATTERN, 8]), (tied_noise, [PATTERN, 7]), (Layout, [3, [[0, 1], [1, 2]]]), (spot_couples, [3]),
+    (still_layout, [3, [2, 0], 4]), (turning_layout, [3, 2, 4]), (moves_of, [ARM]), (check_legs, [ARM, [1, 0]]),
+    (exchanged_layout, [ARM, 2, [1, 0]]), (spot_sums, [PLAN, ARM, 0, HUM]), (couple_sums, [PLAN, ARM, 0, 1, HUM]),
+    (spot_noise, [PLAN, ARM, 0, HUM, STRENGTHS]), (couple_noise, [PLAN, ARM, 0, 1, HUM, STRENGTHS]),
+    (arm_heard, [PLAN, ARM, SPAN, SPAN]), (arm_heard, [PLAN, ARM, None, SPAN]),
+    (heard_strengths, [ARM, SpotHeard(0, 1, 0, (1, 1))]), (group_heard, [PLAN, ARM, SPAN, [0, 0, 1]]),
+    (loudest_strengths, [PLAN, ARM, 0, HUM, STRENGTHS, [(3, 1)] * 3]), (arm_words, [EVEN, ARM, 0, LEVEL]),
+    (count_arm_words, [EVEN, ARM, 0, LEVEL]), (lone_spot, [EVEN, ARM, 0, LEVEL]), (stand_sums, [LINE, ARM, 0, HUM]),
+    (talk_noise, [LINE, ARM, [1, 0], HUM, STRENGTHS]), (further_talk, [LINE, ARM, [1, 0], SPAN]),
+    (talk_lots, [LINE, ARM, SPAN]), (talk_reaches, [THREE, ARM_OF_THREE, [2, 0], 1, LEVEL]),
+    (swap_word, [Layout(2, [[0, 1], [1, 0]])]), (least_talk, [EVEN, 3, LEVEL]), (finer_line, [LINE, 3]),
+    (finer_row, [[4, 5], 3]), (finer_span, [SPAN, 3]), (turn_plan, [PLAN, 3]), (roundabout_of, [LINE, WORD, OTHER]),
+    (by_way, [THREE, 0, 1, 2]), (round_table, [THREE, 0, 0]), (first_round, [THREE]), (check_slacks, [LINE, SLACKS]),
+    (check_shifts, [LINE, SLACKS]), (shifted_line, [LINE, SLACKS]), (slack_range, [LINE, WORD, HUM, SLACKS]),
+    (shifts_meeting, [LINE, WORD, HUM, SLACKS, (1, 2)]), (hushing_shifts, [LINE, [WORD, OTHER], SLACKS]),
+    (hushing_shifts, [EVEN, [WORD, OTHER], SLACKS]), (hushing_fault, [LINE, [WORD], SLACKS, Hushing(SLACKS)]),
+    (least_slack, [LINE, [WORD, OTHER]]), (slack_fault, [LINE, [WORD], Least((1, 2), SLACKS, [(1, 1)])]),
+    (wrong_word, [LINE, WORD, [3, 1]]), (wrong_lots, [LINE, 2]), (check_tests, [LINE, HUMS]),
+    (read_tests, [LINE, WORD, HUMS]), (lots_that_fit, [EVEN, WORD, HUMS[1:], READINGS[:1], 2]),
+    (sure_wrong, [EVEN, OTHER, HUMS[1:], [(4, 1)], 2]), (sure_right, [EVEN, OTHER, HUMS[1:], [(4, 1)], 2]),
+    (telling_hum, [LINE]), (word_of_reading, [LINE, (1, 1)]), (told_apart, [EVEN, WORD, HUMS, 2]),
+    (least_pools, [EVEN, WORD, HUMS, 1]), (best_tree, [EVEN, WORD, HUMS, 2]),
+    (follow_tree, [best_tree(EVEN, WORD, HUMS, 2), READINGS]), (check_changes, [PLAN, CHANGES]),
+    (plan_after, [PLAN, CHANGES]), (check_wishes, [LINE, WISHES]), (first_broken, [PLAN, WISHES]),
+    (grants_all, [PLAN, WISHES]), (nearest_hushed, [LINE, WORD, SPAN]), (nearest_hushed, [EVEN, OTHER, LEVEL]),
+    (find_mends, [PLAN, CHANGES, WISHES]), (mends_fault, [PLAN, CHANGES, WISHES, Mends([[1]], [])]),
+    (find_spoilers, [PLAN, CHANGES, [["pairs", 2]]]), (BENCH.grants, WISHES)]
 KNOWING = [(sums_cost, [LINE, WORD, LIMITS, SUMS]), (spare_parts, [LINE, WORD, LIMITS, [(1, 1)] * 4, SUMS]),
            (greatest_noise, [LINE, WORD, LIMITS]), (greatest_noise, [LINE, WORD, FREE]),
            (greatest_fault, [LINE, WORD, LIMITS, GREATEST]), (endless_fault, [LINE, WORD, FREE, Endless(tuple(HUM))])]
@@ -193,7 +254,9 @@ class PassedInTest(Case):
         for told in (is_hushed(LINE, WORD, SPAN), holds_span(SPAN, SPAN), same_span(SPAN, SPAN),
                      let_same(LIMITS, FREE), LINE.is_even, plan_hushed(PLAN, SPAN, None),
                      is_full(PLAN, SPAN, SPAN), is_full(UPRIGHT, LEVEL, LEVEL), mirrors_itself(LINE), mirrors_itself(EVEN),
-                     is_prime_word(WORD), is_prime_word([1, -1]), hushed_extents(SHORT, 1).holds(4)):
+                     is_prime_word(WORD), is_prime_word([1, -1]), hushed_extents(SHORT, 1).holds(4),
+                     quiet_extents(SHORT, 0, (5, 1)).holds(4), quiet_extents(SHORT, 0, (0, 1)).holds(5),
+                     grants_all(PLAN, WISHES), grants_all(PLAN, [("pairs", 2)]), BENCH.grants(("pairs", 2))):
             self.assertIs(type(told), bool)
 
 
@@ -201,7 +264,11 @@ class EqualTest(Case):
     def test_objects_equal_only_their_own_kind(self):
         made = [LINE, SPAN, LIMITS, PLAN, Heard(0, 0), Made(0), Apart(0), Balance(0), Loud(0, 0), Clash(0, 0),
                 Greatest(0, 0, 0), Endless(0), Quiet(0, 0), Course(0, 0), Outside(0, 0, 0), Between(0, 0, 0, 0),
-                Layers(0), Split(0, 0, 0), CHAIN, PATTERN, Extents(0, 0)]
+                Layers(0), Split(0, 0, 0), CHAIN, PATTERN, Extents(0, 0), QuietExtents(0, 0), Reached(0, 0), ARM,
+                SpotHeard(0, 0, 0, 0), CoupleHeard(0, 0, 0, 0, 0), GroupHeard(0, 0, 0, 0), StrengthRange(0, 0, 0, 0),
+                TalkHeard(0, 0, 0), ReachHeard(0, 0, 0), Turned(0, 0), Round(0, 0, 0, 0), ShiftRange(0, 0, 0, 0),
+                Hushing(0), Fixed(0), Least(0, 0, 0), Alike(0, 0), Ask(0, 0), Found(0), Stuck(0), Lacking(0), Broken(0, 0),
+                Nearest(0, 0), Mends(0, 0), Spoiler(0, 0)]
         for number, one in enumerate(made):
             for place, other in enumerate(made):
                 self.assertIs(one == other, number == place)

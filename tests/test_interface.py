@@ -59,10 +59,41 @@ FUNCTIONS = {
     "forms": """noise_at(pattern,power,extent) form_at(form,repeats) form_of(pattern,power,rest)
         form_fault(pattern,power,rest,form)""",
     "extents": "hushed_extents(pattern,degree) plan_extents(patterns,outside,between) order_at(pattern,extent)",
+    "louds": """quiet_extents(pattern,power,bound) loud_from(pattern,power,bound)
+        greatest_upto(pattern,power,extent)""",
+    "ties": "steps_noise(pattern,extent) tied_noise(pattern,extent)",
+    "layouts": """spot_couples(spots) still_layout(spots,start,sections) turning_layout(spots,pairs,sections)
+        moves_of(layout) check_legs(layout,legs) exchanged_layout(layout,pole,legs)""",
+    "strengths": """spot_sums(plan,layout,pair,hum) couple_sums(plan,layout,pair,other,hum)
+        spot_noise(plan,layout,pair,hum,strengths) couple_noise(plan,layout,pair,other,hum,strengths)
+        arm_heard(plan,layout,outside,between) heard_strengths(layout,heard) group_heard(plan,layout,outside,groups)
+        loudest_strengths(plan,layout,pair,hum,lows,highs)""",
+    "armwords": """arm_words(line,layout,pair,outside) count_arm_words(line,layout,pair,outside)
+        lone_spot(line,layout,pair,outside)""",
+    "talks": """stand_sums(line,layout,pair,hum) talk_noise(line,layout,legs,hum,strengths)
+        further_talk(line,layout,legs,outside) talk_lots(line,layout,outside)
+        talk_reaches(plan,layout,legs,pair,between) swap_word(layout) least_talk(line,spots,outside)""",
+    "turning": "finer_line(line,parts) finer_row(row,parts) finer_span(span,parts) turn_plan(plan,spots)",
+    "roundabouts": """roundabout_of(line,one,other) by_way(plan,first,way,last) round_table(plan,first,last)
+        first_round(plan)""",
+    "slacks": """check_slacks(line,slacks) check_shifts(line,shifts) shifted_line(line,shifts)
+        slack_range(line,word,hum,slacks) shifts_meeting(line,word,hum,slacks,amount)""",
+    "shifts": """hushing_shifts(line,words,slacks) hushing_fault(line,words,slacks,told) least_slack(line,words)
+        slack_fault(line,words,told)""",
+    "wrongs": """wrong_word(line,word,poles) wrong_lots(line,most) check_tests(line,tests) read_tests(line,word,tests)
+        lots_that_fit(line,word,tests,readings,most) sure_wrong(line,word,tests,readings,most)
+        sure_right(line,word,tests,readings,most) telling_hum(line) word_of_reading(line,reading)""",
+    "telling": """told_apart(line,word,tests,most) least_pools(line,word,tests,most) best_tree(line,word,tests,most)
+        follow_tree(tree,readings)""",
+    "changes": "check_changes(plan,changes) plan_after(plan,changes)",
+    "wishes": "check_wishes(line,wishes) first_broken(plan,wishes) grants_all(plan,wishes)",
+    "nearest": "nearest_hushed(line,word,span)",
+    "mends": """find_mends(plan,pool,wishes) mends_fault(plan,pool,wishes,told)
+        find_spoilers(plan,pool,wishes)""",
 }
 GENERATORS = {"words": ["each_word"], "listing": ["hushed_words"], "further": ["all_further"],
               "planlists": ["all_plans", "full_plans"], "mirrors": ["mirrored_words"], "linking": ["all_links"],
-              "primes": ["prime_words"], "patterns": ["steady_patterns"]}
+              "primes": ["prime_words"], "patterns": ["steady_patterns"], "armwords": ["arm_words"]}
 CLASSES = {
     "lines": {"Line(lengths,marks)": """cut_section(self,section,share,mark) backward(self) grown(self,size)
         shifted(self,step) joined_to(self,other,gap) even(count) __len__(self) __eq__(self,other)"""},
@@ -85,10 +116,27 @@ CLASSES = {
     "patterns": {"Pattern(signs)": """sign_at(self,section) word_at(self,extent) __len__(self)
         __eq__(self,other)"""},
     "extents": {"Extents(period,rows)": "holds(self,extent) next_after(self,extent) many_upto(self,extent)"},
+    "louds": {"QuietExtents(period,rows)": "holds(self,extent) last_extent(self)", "Reached(amount,extent)": ""},
+    "layouts": {"Layout(spots,places)": "__len__(self) __eq__(self,other)"},
+    "strengths": {"SpotHeard(pair,spot,hum,noise)": "", "CoupleHeard(pair,other,spots,hum,noise)": "",
+                  "GroupHeard(pair,group,hum,noise)": "",
+                  "StrengthRange(least,greatest,least_strengths,greatest_strengths)": ""},
+    "talks": {"TalkHeard(spot,hum,difference)": "", "ReachHeard(spots,hum,difference)": ""},
+    "turning": {"Turned(plan,layout)": ""},
+    "roundabouts": {"Round(first,way,last,amount)": ""},
+    "slacks": {"ShiftRange(low,high,low_shifts,high_shifts)": ""},
+    "shifts": {"Hushing(shifts)": "", "Fixed(shares)": "", "Least(slack,shifts,shares)": ""},
+    "telling": {"Alike(one,other)": "", "Ask(test,branches)": "", "Found(lot)": "", "Stuck(lots)": ""},
+    "wishes": {"Lacking(pair)": "", "Broken(index,why)": ""},
+    "nearest": {"Nearest(many,words)": ""},
+    "mends": {"Mends(least,losses)": "", "Spoiler(choice,index)": ""},
+    "bench": {"Bench(plan)": """make(self,change) make_all(self,*changes) take_back(self) grants(self,*wishes)
+        trial(self) tried(self,work) __len__(self) __iter__(self)"""},
 }
 PROPERTIES = {"lines": {"Line": ["is_even"]}, "spans": {"Span": ["sections"]},
               "limits": {"Limits": ["free_poles", "free_stretches"]},
-              "chains": {"Chain": ["sections", "chain_order", "crossing_count", "chain_noise"]}}
+              "chains": {"Chain": ["sections", "chain_order", "crossing_count", "chain_noise"]},
+              "mends": {"Mends": ["needed"]}}
 STATIC = {"Line": ["even"], "Limits": ["alike"]}
 
 
@@ -116,7 +164,7 @@ class InterfaceTest(unittest.TestCase):
                 one = getattr(module_of(module), name)
                 self.assertEqual(str(inspect.signature(one)), arguments, name)
                 self.assertEqual(one.__module__, "hushedwires." + module)
-                self.assertIn("__eq__", vars(one))
+                self.assertIs("__eq__" in vars(one), name != "Bench", name)
                 for method, taken in entries(methods):
                     self.assertIn(method, vars(one))
                     self.assertEqual(str(inspect.signature(getattr(one, method))), taken, method)
@@ -133,7 +181,7 @@ class InterfaceTest(unittest.TestCase):
             for name, _ in entries(text):
                 function = getattr(module_of(module), name)
                 self.assertEqual(inspect.isgeneratorfunction(function), name in GENERATORS.get(module, ()), name)
-        self.assertEqual(sum(map(len, GENERATORS.values())), 9)
+        self.assertEqual(sum(map(len, GENERATORS.values())), 10)
 
     def test_constants(self):
         for name in ("ZERO", "ONE", "HALF"):

@@ -20,9 +20,10 @@ UNUSED = set("""register mro elements open input law version_info with_traceback
 WORDS = re.compile(r"typing|\b(type|enum|Enum|Flag|Generic|Protocol|ABC|namedtuple|NamedTuple|abstractmethod)\b"
                    r"|dataclass|overload|contextmanager|_wall|_WallAttr")
 AT_ONCE = {"list", "tuple", "dict", "sorted", "sum", "any", "all", "enumerate", "zip", "min", "max"}
-SPECIAL = {"__init__", "__eq__", "__len__", "__iter__"}
+SPECIAL = {"__init__", "__eq__", "__len__", "__iter__", "__enter__", "__exit__"}
 STATEMENTS = (ast.Assign, ast.AugAssign, ast.If, ast.While, ast.For, ast.Return, ast.Break, ast.Continue, ast.Pass,
-              ast.Raise, ast.Assert, ast.Delete, ast.Try, ast.Expr, ast.FunctionDef, ast.ClassDef, ast.ImportFrom)
+              ast.Raise, ast.Assert, ast.Delete, ast.Try, ast.With, ast.Expr, ast.FunctionDef, ast.ClassDef,
+              ast.ImportFrom)
 
 FILES = {path.stem: path.read_text(encoding="utf-8") for path in sorted(FOLDER.glob("*.py"))}
 TREES = {name: ast.parse(text) for name, text in FILES.items()}
@@ -67,7 +68,7 @@ def functions(tree):
 
 def local_names(function):
     given = function.args
-    names = {one.arg for one in given.posonlyargs + given.args + given.kwonlyargs}
+    names = {one.arg for one in given.posonlyargs + given.args + given.kwonlyargs + [given.vararg] if one}
     for node in ast.walk(function):
         if isinstance(node, ast.Name) and isinstance(node.ctx, ast.Store):
             names.add(node.id)
@@ -191,7 +192,20 @@ class StatementsTest(unittest.TestCase):
             given = node.args
             self.assertIsNone(node.returns, place)
             self.assertTrue(all(one.annotation is None for one in given.args + given.kwonlyargs), place)
-            self.assertEqual((given.vararg, given.kwarg, given.posonlyargs), (None, None, []), place)
+            self.assertEqual((given.kwarg, given.posonlyargs), (None, []), place)
+            self.assertTrue(given.vararg is None or node.name in ("make_all", "grants"), place)
+
+    def test_blocks(self):
+        for place, node in nodes(ast.With):
+            self.assertEqual(len(node.items), 1, place)
+            self.assertIsInstance(node.items[0].context_expr, ast.Call, place)
+            self.assertIsInstance(node.items[0].optional_vars, ast.Name, place)
+        for place, node in nodes(ast.FunctionDef):
+            if node.name == "__exit__":
+                self.assertEqual([one.arg for one in node.args.args], ["self", "kind", "value", "trace"], place)
+                for one in node.body:
+                    self.assertIsInstance(one, ast.Assign, place)
+                    self.assertIsInstance(one.value, ast.Attribute, place)
 
     def test_errors(self):
         own = set(defined(TREES["errors"]))
