@@ -135,11 +135,9 @@ def _stretches_of(differences):
 
 
 def _side_of(differences, low, high):
-    """1 if the values rise on a stretch, -1 if they fall, 0 if they stay."""
+    """-1 if the values fall on a stretch, 1 if they rise or stay."""
     change = differences[-1] if high is None else _value_at(differences, high) - _value_at(differences, low)
-    if change == 0:
-        return 0
-    return 1 if change > 0 else -1
+    return -1 if change < 0 else 1
 
 
 def quiet_runs(differences, widest):
@@ -148,10 +146,11 @@ def quiet_runs(differences, widest):
         return [(0, None)] if abs(differences[0]) <= widest else []
     runs = []
     for low, high in _stretches_of(differences):
-        side = -1 if _side_of(differences, low, high) < 0 else 1
+        side = _side_of(differences, low, high)
         first = _first_reaching(differences, side, -widest, low, high)
         behind = _first_reaching(differences, side, widest + 1, low, high)
-        if first < behind and runs and first <= runs[-1][1] + 1:
+        # a run that goes on where stretches meet has their common end in both of them
+        if first < behind and runs and first == runs[-1][1]:
             runs[-1] = (runs[-1][0], behind - 1)
         elif first < behind:
             runs.append((first, behind - 1))

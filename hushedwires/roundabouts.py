@@ -2,8 +2,7 @@
 
 from hushedwires.errors import BadWay
 from hushedwires.plans import check_pair
-from hushedwires.ratios import HALF, ZERO, plus, times
-from hushedwires.running import running_of
+from hushedwires.ratios import ZERO, common_bottom, make_ratio
 from hushedwires.words import check_word
 
 
@@ -25,12 +24,14 @@ def roundabout_of(line, one, other):
     """The sum over all couples of sections, each section with itself taken half."""
     one = check_word(line, one)
     other = check_word(line, other)
-    running = running_of(line, one)
-    total = ZERO
-    for section, length in enumerate(line.lengths):
-        middle = times(HALF, plus(running[section], running[section + 1]))
-        total = plus(total, times(times(length, (other[section], 1)), middle))
-    return total
+    bottom = common_bottom(line.lengths)
+    running = 0
+    total = 0
+    for length, sign, against in zip(line.lengths, one, other):
+        whole = length[0] * (bottom // length[1])
+        total = total + against * whole * (2 * running + sign * whole)
+        running = running + sign * whole
+    return make_ratio(total, 2 * bottom * bottom)
 
 
 def by_way(plan, first, way, last):

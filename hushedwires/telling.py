@@ -56,13 +56,9 @@ class Ask:
 
 
 def _greatest_depth(branches):
-    # a result takes whatever it is given, and only trees have a depth
+    # a result takes whatever it is given; trees without a test have no depth
     couples = branches if isinstance(branches, (list, tuple)) else ()
-    return max([0] + [couple[1].depth for couple in couples if is_row(couple, 2, 2) and _is_tree(couple[1])])
-
-
-def _is_tree(thing):
-    return isinstance(thing, Ask) or isinstance(thing, Found) or isinstance(thing, Stuck)
+    return max([0] + [couple[1].depth for couple in couples if is_row(couple, 2, 2) and isinstance(couple[1], Ask)])
 
 
 class Ledger:

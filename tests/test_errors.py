@@ -39,6 +39,14 @@ class ErrorsTest(unittest.TestCase):
             self.assertEqual(vars(made), dict(zip(names, given)), error)
             self.assertEqual(vars(error(**dict(zip(names, given)))), dict(zip(names, given)))
 
+    def test_each_is_caught(self):
+        for error, names in told():
+            for caught in (error, errors.WireError, ValueError):
+                with self.assertRaises(caught):
+                    raise error(*range(len(names)))
+            for other, _ in told():
+                self.assertIs(issubclass(error, other), error is other)
+
     def test_each_needs_its_arguments(self):
         for error, names in told():
             if names:

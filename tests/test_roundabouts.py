@@ -179,6 +179,7 @@ class WayTest(Case):
             self.refuses(NoPair(thing), by_way, plan, 0, 0, thing)
             self.refuses(NoPair(thing), round_table, plan, thing, 9)
             self.refuses(NoPair(thing), round_table, plan, 0, thing)
+            self.refuses(NoPair(thing), round_table, Plan(EVEN, [HALVES]), 0, thing)
         self.refuses(BadWay(), by_way, plan, 0, 0, 1)
         self.refuses(BadWay(), by_way, plan, 0, 1, 1)
         self.refuses(BadWay(), by_way, plan, 1, 1, 1)

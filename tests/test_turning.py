@@ -51,6 +51,8 @@ class FinerTest(Case):
         for thing in WRONG_WHOLES + [0, 1, 5, -2]:
             self.refuses(BadParts(), finer_line, line, thing)
             self.refuses(BadParts(), finer_span, span, thing)
+        self.refuses(BadParts(), finer_line, Line.even(1), 5)
+        self.refuses(BadParts(), finer_span, degree_span(Line.even(1), 1), 1)
         for count, parts in ((13, 2), (9, 3), (7, 4)):
             self.assertEqual(len(finer_line(Line.even(count - 1), parts)), (count - 1) * parts)
             self.refuses(BadParts(), finer_line, Line.even(count), parts)

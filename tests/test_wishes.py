@@ -114,7 +114,8 @@ def random_wish(source, line):
     return source.choice((
         ("hushed", pairs[0], degree), ("all hushed", degree), ("apart", pairs[0], pairs[1], degree), ("all apart", degree),
         ("round", *pairs), ("round", pairs[0], pairs[1], pairs[0]), ("all round",), ("pairs", source.randint(1, 4)),
-        ("crossings", source.randint(0, 12)), ("at most", pairs[0], whole_limits(source, len(line), 0.2), ratio(source.randint(-1, 9)))))
+        ("crossings", source.randint(0, 12)),
+        ("at most", pairs[0], whole_limits(source, len(line), 0.2), ratio(source.randint(-1, 9)))))
 
 
 class BrokenTest(Case):
